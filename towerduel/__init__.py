@@ -1,0 +1,1 @@
+"""Towerduel: games for two on stacks of any depth."""
