@@ -44,6 +44,9 @@ class Drawer:
         sides, ranks, ends = self.numbers(states, 2), self.numbers(states, 3), self.numbers(states, 2)
         return Duel(sides, ranks, ends, letters, self.rows(states, letters))
 
+    def one_of(self, things):
+        return things[self.number(len(things))]
+
     def some(self, things):
         """Each of the things or not, as it comes."""
         return tuple(thing for thing in things if self.number(2))

@@ -12,7 +12,7 @@ def families(duel, side):
     """A dict from each pair (state, letter) to the family of this side."""
     solver = Solver(duel, side)
     held = solver.held()
-    return {spot: solver.tables.least(held[spot]) for spot in held}
+    return {spot: solver.tables.family(held[spot]) for spot in held}
 
 
 def holds(duel, side, state, letter, claim):

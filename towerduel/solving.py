@@ -2,6 +2,20 @@
 
 from towerduel.claims import ClaimTables
 from towerduel.duels import spots_of
+from towerduel.rules import Rules
+
+
+class Stage:
+    """What was found to be held by some guesses, and what the guess for each rank was made of.
+
+    found is a dict from each pair (state, letter) to a table, behind one from
+    each rank to such a dict: what was found needs, behind a step of a rank,
+    only claims that are told there.
+    """
+
+    def __init__(self, found):
+        self.found = found
+        self.behind = {}
 
 
 class Solver:
@@ -10,72 +24,112 @@ class Solver:
     Each step by which a claim is held has a rank, and of the ranks of a row of
     steps without end the least that comes again and again decides. So there is
     a guess for each rank, of what is held behind steps of this rank, and it is
-    mended until it is true; what the guesses for greater ranks had become is
-    forgotten each time that one for a lesser rank is mended.
+    mended until it is true, the guesses for greater ranks each time after one
+    for a lesser rank. The side wins a circle of its own parity: there the guess
+    begins with all claims, otherwise with none.
     """
 
     def __init__(self, duel, side):
-        self.duel = duel
-        self.side = side
         self.tables = ClaimTables(duel.ranks)
-        self._spots = spots_of(duel)
+        self._side = side
         self._ranks = sorted(set(duel.ranks))
-        self._guesses = {}
+        self._spots = spots_of(duel)
+        self._rules = Rules(duel, side, self.tables)
+        for spot in self._spots:
+            self._rules.add_row(spot, duel.row(*spot), duel.ranks)
+        self._rounds = {}
+        self._kept = {}
 
     def held(self):
         """A dict from each pair (state, letter) to the table of the claims held there."""
+        self._kept = {}
         return self._settled(0)
+
+    def stages(self):
+        """The stages by which all that is held is found, one after the other; the last one has it all.
+
+        If each claim is held as the first stage that has it tells, the side
+        loses no circle: a step of a rank of the other side's parity goes back to
+        an earlier round of the guess for this rank, and no step of a greater
+        rank leads to a later one.
+        """
+        self._kept = {}
+        return self._staged(0)
 
     def _settled(self, depth):
         """What is held if the guesses for the ranks ahead of this depth are true."""
-        if depth == len(self._ranks):
-            return {spot: self._held_at(spot) for spot in self._spots}
         rank = self._ranks[depth]
-        # The side wins a circle of its own parity: there a claim is held unless the rules speak against it.
-        start = self.tables.whole if rank % 2 == self.side else 0
-        guess = {spot: start for spot in self._spots}
-        while True:
-            self._guesses[rank] = guess
-            found = self._settled(depth + 1)
-            mended = {spot: self.tables.lowered(found[spot], rank) for spot in self._spots}
-            if mended == guess:
-                return found
-            guess = mended
+        # In the same round of the rank ahead, but after another guess for the one ahead of that,
+        # a guess only goes on from where it stopped: both begin from the same side.
+        place = rank, self._rounds.get(rank - 1)
+        self._guess(rank, self._kept.get(place, self._first(rank)))
+        if depth == len(self._ranks) - 1:
+            held = self._settled_last(rank)
+        else:
+            held = self._settled_by_rounds(depth)
+        self._kept[place] = held
+        return held
 
-    def _held_at(self, spot):
-        """The table of the claims held at a state and a letter, by the rows and the guesses."""
+    def _settled_last(self, rank):
+        """What is held once the guess for the greatest rank is mended, place by place, until it is true."""
+        mended = True
+        while mended:
+            mended = False
+            for spot in self._spots:
+                if self._guess_at(rank, spot, self._rules.held_at(spot)):
+                    mended = True
+        return self._rules.held()
+
+    def _settled_by_rounds(self, depth):
+        """What is held once the guess for the rank of this depth is mended until it is true."""
+        rank = self._ranks[depth]
+        self._rounds[rank] = 0
+        held = self._settled(depth + 1)
+        while self._guess(rank, held):
+            self._rounds[rank] += 1
+            held = self._settled(depth + 1)
+        return held
+
+    def _staged(self, depth):
+        """The stages, if the guesses for the ranks ahead of this depth are true."""
+        if depth == len(self._ranks):
+            return [Stage(self._rules.held())]
+        rank = self._ranks[depth]
+        if rank % 2 != self._side:
+            return self._staged_by_rounds(depth)
+        held = self._settled(depth)
+        stages = self._staged(depth + 1)
+        for stage in stages:
+            stage.behind[rank] = held
+        return stages
+
+    def _staged_by_rounds(self, depth):
+        """The stages of a guess that begins with no claims, those of one round after the other."""
+        rank = self._ranks[depth]
+        stages = []
+        behind = self._first(rank)
+        self._rounds[rank] = 0
+        while self._guess(rank, behind) or not stages:
+            for stage in self._staged(depth + 1):
+                stage.behind[rank] = behind
+                stages.append(stage)
+            behind = stages[-1].found
+            self._rounds[rank] += 1
+        return stages
+
+    def _first(self, rank):
+        """What a guess for a rank begins with."""
+        table = self.tables.whole if rank % 2 == self._side else 0
+        return {spot: table for spot in self._spots}
+
+    def _guess(self, rank, held):
+        """Guesses that this is held behind steps of a rank, and tells whether the guess was another one."""
+        changed = [spot for spot in self._spots if self._guess_at(rank, spot, held[spot])]
+        return len(changed) > 0
+
+    def _guess_at(self, rank, spot, table):
         state, letter = spot
-        tables = [self._held_by(move) for move in self.duel.row(state, letter)]
-        if self.duel.sides[state] == self.side:
-            return joined(tables)
-        return common(tables, self.tables.whole)
-
-    def _held_by(self, move):
-        """The table of the claims held at a state and a letter if this move is made there."""
-        state, word = move
-        rank = self.duel.ranks[state]
-        if not word:
-            return self.tables.having((state, rank))
-        above = self._guesses[rank][state, word[0]]
-        if len(word) == 1:
-            return above
-        return joined([self._met(claim, word[1]) for claim in self.tables.least(above)])
-
-    def _met(self, returns, letter):
-        """The table of the claims held if each of the returns is made to the letter beneath."""
-        return common([self._guesses[rank][state, letter] for state, rank in returns], self.tables.whole)
-
-
-def joined(tables):
-    """The table of all claims that are in one of the tables."""
-    total = 0
-    for table in tables:
-        total |= table
-    return total
-
-
-def common(tables, whole):
-    """The table of all claims of a whole table that are in each of the tables."""
-    for table in tables:
-        whole &= table
-    return whole
+        if (state, rank) not in self.tables.places:
+            return False
+        place = self.tables.places[state, rank]
+        return self._rules.guess(letter, place, self.tables.lowered(table, rank))

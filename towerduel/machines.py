@@ -1,0 +1,105 @@
+"""Who wins from which stack: the machine of a duel, and what it tells."""
+
+from towerduel.duels import after
+from towerduel.errors import ShapeError
+from towerduel.reading import explored, read
+from towerduel.solving import Solver
+
+
+class Winning:
+    """Tells the winning states of stacks, letter by letter."""
+
+    def __init__(self, duel):
+        solver = Solver(duel, 0)
+        self._tables = solver.tables
+        self._held = solver.held()
+        self._states = range_of_states(duel)
+        self._above = {}
+        self.empty = tuple(state for state in self._states if duel.ends[state] == 0)
+
+    def above(self, states, letter):
+        """The winning states of a stack with this letter put on top, of what has these ones."""
+        if (states, letter) not in self._above:
+            claim = [pair for pair in self._tables.pairs if pair[0] in states]
+            self._above[states, letter] = tuple(
+                state for state in self._states if self._tables.has(self._held[state, letter], claim)
+            )
+        return self._above[states, letter]
+
+    def of_stack(self, stack):
+        """The winning states of a stack."""
+        return read(stack, self.empty, self.above)
+
+
+def range_of_states(duel):
+    """The states of a duel, ascending."""
+    return tuple(range(len(duel.sides)))
+
+
+def has_won(side, state, states):
+    """Whether this side wins at a state and a stack with these winning states."""
+    return (state in states) == (side == 0)
+
+
+def machine(duel):
+    """The machine of a duel: a row for each set of winning states, with the numbers of its steps."""
+    winning = Winning(duel)
+    return tuple((states, steps) for states, _, steps in explored(winning.empty, duel.letters, winning.above))
+
+
+def winner(duel, state, stack):
+    """The side that wins at a state and a stack."""
+    return 0 if state in Winning(duel).of_stack(stack) else 1
+
+
+def first_win(duel, side, state):
+    """The first stack with which this side wins at this state, None if there is none."""
+    winning = Winning(duel)
+    for states, stack, _ in explored(winning.empty, duel.letters, winning.above):
+        if has_won(side, state, states):
+            return stack
+    return None
+
+
+def count_wins(duel, state, height):
+    """How many stacks of this height side 0 wins with at this state."""
+    rows = machine(duel)
+    counts = [1] + [0] * (len(rows) - 1)
+    for _ in range(height):
+        above = [0] * len(rows)
+        for many, (_, steps) in zip(counts, rows):
+            for number in steps:
+                above[number] += many
+        counts = above
+    return sum(many for many, (states, _) in zip(counts, rows) if state in states)
+
+
+def part(one, other):
+    """The first stack at which two duels part, and the least state there; None if they don't."""
+    if len(one.sides) != len(other.sides):
+        raise ShapeError("states")
+    if one.letters != other.letters:
+        raise ShapeError("letters")
+    first, second = Winning(one), Winning(other)
+
+    def above(pair, letter):
+        return first.above(pair[0], letter), second.above(pair[1], letter)
+
+    for (states, others), stack, _ in explored((first.empty, second.empty), one.letters, above):
+        for state in range_of_states(one):
+            if (state in states) != (state in others):
+                return stack, state
+    return None
+
+
+def good_moves(duel, state, stack):
+    """The numbers of the moves that leave the side to move a winner."""
+    if not stack:
+        return ()
+    winning = Winning(duel)
+    good = []
+    for number, move in enumerate(duel.row(state, stack[0])):
+        behind, rest = after(stack, move)
+        if has_won(duel.sides[state], behind, winning.of_stack(rest)):
+            good.append(number)
+    return tuple(good)
