@@ -3,7 +3,7 @@ import unittest
 from tests.drawing import Drawer, drawn, slow
 from tests.second_judge import breaks_nothing, fault, first_open, shown_by
 from tests.stacks import by_machine, with_rows, won_states
-from tests.turning import STRANGE, at, places, put, reached, taken_out, turned
+from tests.turning import STRANGE, at, near, places, put, reached, taken_out, turned
 from towerduel.duels import Duel
 from towerduel.judging import judge, judge_book, shown
 from towerduel.papers import book
@@ -12,23 +12,6 @@ DUELS = slow() + drawn()
 SOME = slow() + drawn(
     ((2, 2, 700), (1, 2, 150), (2, 1, 300), (3, 1, 500), (3, 2, 250), (2, 3, 150), (1, 3, 150), (3, 3, 30)), seed=31
 )
-
-
-def near(duel, drawer):
-    """The duel with one thing drawn anew: a row, a move, a rank, a side or an end."""
-    rows = with_rows(duel, lambda spot, row: row)
-    heads = [list(head) for head in (duel.sides, duel.ranks, duel.ends)]
-    kind = drawer.number(8)
-    states, letters = len(duel.sides), duel.letters
-    spot = drawer.number(states), drawer.number(letters)
-    if kind < 4:
-        heads[(0, 1, 1, 2)[kind]][drawer.number(states)] = drawer.number(3 if kind in (1, 2) else 2)
-    elif kind < 6:
-        rows[spot] = drawer.row(states, letters)
-    else:
-        place = drawer.number(3)
-        rows[spot] = tuple(dict.fromkeys(rows[spot][:place] + (drawer.move(states, letters),) + rows[spot][place + 1:]))
-    return Duel(*[tuple(head) for head in heads], letters, rows)
 
 
 def other_ranks(duel, papers, drawer):

@@ -3,6 +3,7 @@ from itertools import product
 
 from tests.drawing import Drawer, drawn, slow
 from tests.stacks import by_machine, played_out, stacks_up_to, states_of, with_rows, won_among_low, won_states
+from tests.turning import near
 from towerduel.duels import Duel, after, alike
 from towerduel.errors import ShapeError
 from towerduel.families import holds
@@ -27,19 +28,6 @@ def single(duel, drawer):
     """The duel with at most one move in each row."""
     rows = with_rows(duel, lambda spot, row: row[:1] if drawer.number(8) else ())
     return Duel(duel.sides, duel.ranks, duel.ends, duel.letters, rows)
-
-
-def near(duel, drawer):
-    """The duel with one thing drawn anew: a row, a rank, a side or an end."""
-    rows = with_rows(duel, lambda spot, row: row)
-    heads = [list(head) for head in (duel.sides, duel.ranks, duel.ends)]
-    kind = drawer.number(6)
-    if kind < 3:
-        heads[kind][drawer.number(len(duel.sides))] = drawer.number(3 if kind == 1 else 2)
-    else:
-        spot = drawer.number(len(duel.sides)), drawer.number(duel.letters)
-        rows[spot] = drawer.row(len(duel.sides), duel.letters)
-    return Duel(*[tuple(head) for head in heads], duel.letters, rows)
 
 
 class TestMachine(unittest.TestCase):
@@ -95,7 +83,7 @@ class TestWinner(unittest.TestCase):
 
     def test_all_low_stacks_against_the_machine(self):
         for duel in SOME:
-            for stack, states in by_machine(duel, 4 if duel.letters < 3 else 3).items():
+            for stack, states in by_machine(duel, 4).items():
                 for state in states_of(duel):
                     self.assertEqual(winner(duel, state, stack), 0 if state in states else 1)
 

@@ -86,7 +86,7 @@ class TestDrawn(unittest.TestCase):
 
     def test_shown(self):
         for duel in DUELS:
-            wins = by_machine(duel, 4 if duel.letters < 3 else 3)
+            wins = by_machine(duel, 4)
             for side in (0, 1):
                 told = paper(duel, side)
                 for stack in wins:

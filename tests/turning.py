@@ -1,4 +1,7 @@
-"""Papers turned in some places, for the tests."""
+"""Papers turned in some places, and duels in one, for the tests."""
+
+from tests.stacks import with_rows
+from towerduel.duels import Duel
 
 # What may come into any place. Some of it can't be hashed or compared.
 STRANGE = (
@@ -89,3 +92,20 @@ def taken_out(paper, numbers):
         return (*answer[:2], new[answer[2]], tuple((state, rank, new[entry]) for state, rank, entry in answer[3]))
 
     return tuple((*paper[number][:3], tuple(told_anew(answer) for answer in paper[number][3])) for number in numbers)
+
+
+def near(duel, drawer):
+    """The duel with one thing drawn anew: a row, a move, a rank, a side or an end."""
+    rows = with_rows(duel, lambda spot, row: row)
+    heads = [list(head) for head in (duel.sides, duel.ranks, duel.ends)]
+    kind = drawer.number(8)
+    states, letters = len(duel.sides), duel.letters
+    spot = drawer.number(states), drawer.number(letters)
+    if kind < 4:
+        heads[(0, 1, 1, 2)[kind]][drawer.number(states)] = drawer.number(3 if kind in (1, 2) else 2)
+    elif kind < 6:
+        rows[spot] = drawer.row(states, letters)
+    else:
+        place = drawer.number(3)
+        rows[spot] = tuple(dict.fromkeys(rows[spot][:place] + (drawer.move(states, letters),) + rows[spot][place + 1:]))
+    return Duel(*[tuple(head) for head in heads], letters, rows)

@@ -82,16 +82,11 @@ class Showing:
         self._claims = {}
         for state, letter, claim, _ in paper:
             self._claims.setdefault((state, letter), []).append(claim)
-        self._above = {}
         self.empty = tuple(state for state in self._states if duel.ends[state] == side)
 
     def above(self, states, letter):
         """The states shown for a stack with this letter put on top, of what has these ones."""
-        if (states, letter) not in self._above:
-            self._above[states, letter] = tuple(
-                state for state in self._states if self._shows(state, letter, states)
-            )
-        return self._above[states, letter]
+        return tuple(state for state in self._states if self._shows(state, letter, states))
 
     def _shows(self, state, letter, states):
         claims = self._claims.get((state, letter), [])

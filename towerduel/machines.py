@@ -14,17 +14,12 @@ class Winning:
         self._tables = solver.tables
         self._held = solver.held()
         self._states = range_of_states(duel)
-        self._above = {}
         self.empty = tuple(state for state in self._states if duel.ends[state] == 0)
 
     def above(self, states, letter):
         """The winning states of a stack with this letter put on top, of what has these ones."""
-        if (states, letter) not in self._above:
-            claim = [pair for pair in self._tables.pairs if pair[0] in states]
-            self._above[states, letter] = tuple(
-                state for state in self._states if self._tables.has(self._held[state, letter], claim)
-            )
-        return self._above[states, letter]
+        claim = [pair for pair in self._tables.pairs if pair[0] in states]
+        return tuple(state for state in self._states if self._tables.has(self._held[state, letter], claim))
 
     def of_stack(self, stack):
         """The winning states of a stack."""

@@ -3,9 +3,13 @@
 
 def read(stack, start, step):
     """What the stack comes to, if the empty one comes to start."""
+    # A tall stack comes to the same few values again and again.
+    steps = {}
     value = start
     for letter in reversed(stack):
-        value = step(value, letter)
+        if (value, letter) not in steps:
+            steps[value, letter] = step(value, letter)
+        value = steps[value, letter]
     return value
 
 

@@ -14,7 +14,7 @@ class Rules:
         self._tables = tables
         self._mine = [own == side for own in duel.sides]
         self._guesses = [[0] * len(tables.pairs) for _ in range(duel.letters)]
-        self._readers = [[{} for _ in tables.pairs] for _ in range(duel.letters)]
+        self._readers = [[{} for pair in tables.pairs] for _ in range(duel.letters)]
         self._moves = {}
         self._held = {}
         self._stale = {}

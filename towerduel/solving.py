@@ -49,9 +49,9 @@ class Solver:
         """The stages by which all that is held is found, one after the other; the last one has it all.
 
         If each claim is held as the first stage that has it tells, the side
-        loses no circle: a step of a rank of the other side's parity goes back to
-        an earlier round of the guess for this rank, and no step of a greater
-        rank leads to a later one.
+        loses no circle of steps: a step of a rank of the other side's parity
+        leads to an earlier round of the guess for this rank (or for one ahead of
+        it), and no step of a greater rank leads to a later one.
         """
         self._kept = {}
         return self._staged(0)
