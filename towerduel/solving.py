@@ -124,8 +124,11 @@ class Solver:
 
     def _guess(self, rank, held):
         """Guesses that this is held behind steps of a rank, and tells whether the guess was another one."""
-        changed = [spot for spot in self._spots if self._guess_at(rank, spot, held[spot])]
-        return len(changed) > 0
+        changed = False
+        for spot in self._spots:
+            if self._guess_at(rank, spot, held[spot]):
+                changed = True
+        return changed
 
     def _guess_at(self, rank, spot, table):
         state, letter = spot
