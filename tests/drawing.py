@@ -58,7 +58,8 @@ def drawn(sizes=SIZES, seed=1):
     return [drawer.duel(states, letters) for states, letters, many in sizes for _ in range(many)]
 
 
-# Found by long searches for duels whose families, or those and their papers, take the most steps to work out.
+# Found by long searches for duels whose families, or those and their papers, take the most steps to work out;
+# the last two for duels with the largest papers.
 SLOW = (
     (
         (0, 0), (1, 2), (0, 0), 2,
@@ -205,9 +206,37 @@ SLOW = (
             (1, 2): ((0, ()), (0, (1, 0)), (1, (2, 1))),
         },
     ),
+    (
+        (1, 1, 0), (0, 1, 2), (1, 0, 0), 3,
+        {
+            (0, 0): ((2, (0,)), (2, (2,)), (1, (2, 2))),
+            (0, 1): ((1, ()), (2, (1, 1)), (2, (1,))),
+            (0, 2): ((0, ()), (2, (2,)), (1, (0,))),
+            (1, 0): ((1, (2,)), (2, (2, 0)), (2, (0, 1))),
+            (1, 1): ((2, ()), (2, (1, 2)), (2, (2, 0))),
+            (1, 2): ((1, (1, 0)), (2, (0, 1)), (2, (0, 2))),
+            (2, 0): ((2, ()), (1, ()), (1, (0, 1))),
+            (2, 1): ((0, ()), (1, (0,))),
+            (2, 2): ((1, (1,)), (2, ()), (1, ())),
+        },
+    ),
+    (
+        (0, 1, 1), (1, 0, 2), (0, 0, 0), 3,
+        {
+            (0, 0): ((1, (2,)), (0, (2,)), (0, (2, 0))),
+            (0, 1): ((2, (2, 2)), (0, (2, 1)), (2, (1, 1))),
+            (0, 2): ((0, (1,)), (2, ()), (2, (2,))),
+            (1, 0): ((1, (1, 2)), (2, (0,))),
+            (1, 1): ((0, (0,)), (1, (1, 1))),
+            (1, 2): ((1, ()), (1, (2, 0)), (0, (1,))),
+            (2, 0): ((0, (0,)), (2, ()), (2, (1,))),
+            (2, 1): ((1, ()), (0, (2, 2)), (2, ())),
+            (2, 2): ((0, ()), (1, (1,)), (0, (0,))),
+        },
+    ),
 )
 
 
 def slow():
-    """The duels whose families and papers take the most steps."""
+    """The duels whose families and papers take the most steps, or whose papers are the largest."""
     return [Duel(*told) for told in SLOW]
