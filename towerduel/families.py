@@ -10,12 +10,12 @@ def lowered(claim, rank):
 
 def families(duel, side):
     """A dict from each pair (state, letter) to the family of this side."""
-    solver = Solver(duel, side)
+    solver = Solver(duel, side, {})
     held = solver.held()
     return {spot: solver.tables.family(held[spot]) for spot in held}
 
 
 def holds(duel, side, state, letter, claim):
     """Whether this side holds this claim at this state and letter."""
-    solver = Solver(duel, side)
+    solver = Solver(duel, side, {})
     return solver.tables.has(solver.held()[state, letter], claim)

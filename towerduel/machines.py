@@ -1,5 +1,6 @@
 """Who wins from which stack: the machine of a duel, and what it tells."""
 
+from towerduel.claims import ClaimTables
 from towerduel.duels import after
 from towerduel.errors import ShapeError
 from towerduel.reading import explored, read
@@ -7,12 +8,12 @@ from towerduel.solving import Solver
 
 
 class Winning:
-    """Tells the winning states of stacks, letter by letter."""
+    """Tells the winning states of stacks, letter by letter, by the tables of the claims that side 0 holds."""
 
-    def __init__(self, duel):
-        solver = Solver(duel, 0)
-        self._tables = solver.tables
-        self._held = solver.held()
+    def __init__(self, duel, held):
+        self._tables = ClaimTables(duel.ranks)
+        self._held = held
+        self._letters = duel.letters
         self._states = range_of_states(duel)
         self.empty = tuple(state for state in self._states if duel.ends[state] == 0)
 
@@ -24,6 +25,23 @@ class Winning:
     def of_stack(self, stack):
         """The winning states of a stack."""
         return read(stack, self.empty, self.above)
+
+    def of_all_stacks(self):
+        """Triples of winning states that some stack has, the first such stack, and the numbers of its steps."""
+        return explored(self.empty, self._letters, self.above)
+
+    def machine(self):
+        """The rows of the machine."""
+        return tuple((states, steps) for states, _, steps in self.of_all_stacks())
+
+    def winner(self, state, stack):
+        """The side that wins at a state and a stack."""
+        return 0 if state in self.of_stack(stack) else 1
+
+
+def winning_of(duel):
+    """What tells the winning states of stacks of a duel."""
+    return Winning(duel, Solver(duel, 0, {}).held())
 
 
 def range_of_states(duel):
@@ -38,19 +56,17 @@ def has_won(side, state, states):
 
 def machine(duel):
     """The machine of a duel: a row for each set of winning states, with the numbers of its steps."""
-    winning = Winning(duel)
-    return tuple((states, steps) for states, _, steps in explored(winning.empty, duel.letters, winning.above))
+    return winning_of(duel).machine()
 
 
 def winner(duel, state, stack):
     """The side that wins at a state and a stack."""
-    return 0 if state in Winning(duel).of_stack(stack) else 1
+    return winning_of(duel).winner(state, stack)
 
 
 def first_win(duel, side, state):
     """The first stack with which this side wins at this state, None if there is none."""
-    winning = Winning(duel)
-    for states, stack, _ in explored(winning.empty, duel.letters, winning.above):
+    for states, stack, _ in winning_of(duel).of_all_stacks():
         if has_won(side, state, states):
             return stack
     return None
@@ -75,7 +91,7 @@ def part(one, other):
         raise ShapeError("states")
     if one.letters != other.letters:
         raise ShapeError("letters")
-    first, second = Winning(one), Winning(other)
+    first, second = winning_of(one), winning_of(other)
 
     def above(pair, letter):
         return first.above(pair[0], letter), second.above(pair[1], letter)
@@ -91,7 +107,7 @@ def good_moves(duel, state, stack):
     """The numbers of the moves that leave the side to move a winner."""
     if not stack:
         return ()
-    winning = Winning(duel)
+    winning = winning_of(duel)
     good = []
     for number, move in enumerate(duel.row(state, stack[0])):
         behind, rest = after(stack, move)

@@ -11,7 +11,7 @@ class Writer:
     """
 
     def __init__(self, duel, side):
-        solver = Solver(duel, side)
+        solver = Solver(duel, side, {})
         self._duel = duel
         self._side = side
         self._tables = solver.tables

@@ -27,21 +27,28 @@ class Solver:
     mended until it is true, the guesses for greater ranks each time after one
     for a lesser rank. The side wins a circle of its own parity: there the guess
     begins with all claims, otherwise with none.
+
+    What is known of some letters, in a dict as held tells it, is not worked out
+    again; of a letter that is known, all that it uses has to be known, too.
     """
 
-    def __init__(self, duel, side):
+    def __init__(self, duel, side, known):
         self.tables = ClaimTables(duel.ranks)
         self._side = side
         self._ranks = sorted(set(duel.ranks))
-        self._spots = spots_of(duel)
+        self._spots = [spot for spot in spots_of(duel) if spot not in known]
         self._rules = Rules(duel, side, self.tables)
         for spot in self._spots:
             self._rules.add_row(spot, duel.row(*spot), duel.ranks)
+        # No circle of steps leaves the letters that are known and comes back to them: there each guess is true.
+        for spot in known:
+            for rank in self._ranks:
+                self._guess_at(rank, spot, known[spot])
         self._rounds = {}
         self._kept = {}
 
     def held(self):
-        """A dict from each pair (state, letter) to the table of the claims held there."""
+        """A dict from each pair (state, letter) that was not known to the table of the claims held there."""
         self._kept = {}
         return self._settled(0)
 
