@@ -1,16 +1,22 @@
 """Machines that read a stack from its bottom: a value for the empty stack, and a step for each letter put on top."""
 
 
-def read(stack, start, step):
-    """What the stack comes to, if the empty one comes to start."""
+def read_heights(stack, start, step):
+    """What the stack comes to, if the empty one comes to start: a list with a value for each height, from 0 on."""
     # A tall stack comes to the same few values again and again.
     steps = {}
-    value = start
+    values = [start]
     for letter in reversed(stack):
+        value = values[-1]
         if (value, letter) not in steps:
             steps[value, letter] = step(value, letter)
-        value = steps[value, letter]
-    return value
+        values.append(steps[value, letter])
+    return values
+
+
+def read(stack, start, step):
+    """What the whole stack comes to, if the empty one comes to start."""
+    return read_heights(stack, start, step)[-1]
 
 
 def explored(start, letters, step):
